@@ -1,22 +1,26 @@
 """The calls on a gazette, and their answers."""
 
-from issuerolls.gaps import gaps_of, is_sure
-from issuerolls.reading import GREATEST_ISSUE, WrongClose, read_issue
-from issuerolls.rolls import files_behind, issues_up_to, record_of
+from issuerolls.gaps import gaps_of
+from issuerolls.reading import WrongClose, read_issue
+from issuerolls.telling import (tell_aims, tell_behind, tell_files, tell_history, tell_last, tell_line, tell_record,
+                                tell_search, tell_sure, tell_then, tell_value, tell_without)
 from issuerolls.words import Fault
+from issuerolls.writing import written_issue
 
 OUT_OF_RANGE = -3
 NO_BYTE = -1
+NOT_KNOWN = -5
 FAULT = -1000
 WRONG_COUNT_OR_CHECK = -2
+WRONG_ISSUES = -4
 OTHER_TEXT = -6
 DAYS_OUT_OF_ORDER = -7
-NO_FIELD = -8
 TOO_MANY_ISSUES = -9
 
 MOST_ISSUES = 24
 
-# For each call the ranges of its whole numbers, and so how many it has.
+# For each call the ranges of its whole numbers, and so how many it has. The number of an
+# issue or of a line has no range: it is known or not.
 RANGES = {
     0: (),
     1: (),
@@ -28,13 +32,28 @@ RANGES = {
     7: ((1, 999),),
     8: ((1, 999), (0, 99)),
     9: ((1, 999), (0, 99)),
+    10: (None, None),
+    11: (None, None),
+    12: ((1, 99), (0, 100000)),
+    13: ((1, 999),),
+    14: (None,),
+    15: (None,),
+    16: (),
+    17: ((10, 99),),
+    18: (None,),
+    19: (),
 }
 
-CALLS_WITH_TEXT = (0, 1)
+CALLS_WITH_BYTES = (0, 1, 12, 17)
+CALLS_WITH_LIST = (0, 1, 12, 16, 17)
+CALLS_ABOUT_FILE = (4, 5, 7, 8, 9, 13)
+CALLS_ABOUT_ISSUE = (10, 11, 14, 15, 18)
+CALLS_ABOUT_LINE = (10, 11)
 
 
+# In rising order, however they came.
 def known_issues(known):
-    return issues_up_to(known, GREATEST_ISSUE)
+    return [known[number] for number in sorted(known)]
 
 
 def days_clash(known, issue):
@@ -78,59 +97,103 @@ def judge(text):
     return [0]
 
 
-def all_files(known):
-    return files_behind(known_issues(known), GREATEST_ISSUE)
+def write(number, day, lines_text):
+    try:
+        text = written_issue(number, day, lines_text)
+    except Fault as fault:
+        return [FAULT - fault.place]
+    return [0] + text
 
 
-def tell_value(known, file, code):
-    fields = all_files(known).get(file, {})
-    if code not in fields:
-        return [NO_FIELD]
-    return [0] + fields[code]
+def lose(known, number):
+    known.pop(number)
+    return [len(known)]
 
 
-def tell_sure(known, file):
-    return [1] if is_sure(known_issues(known), file) else [0]
+def without(known, numbers):
+    if len(numbers) > MOST_ISSUES or any([number not in known for number in numbers]):
+        return [WRONG_ISSUES]
+    return tell_without(known_issues(known), numbers)
 
 
-def tell_behind(known, file, number):
-    return record_of(files_behind(known_issues(known), number), file)
-
-
-def tell_then(known, file, number):
-    return record_of(files_behind(issues_up_to(known, number), number), file)
-
-
-def answer_about_file(known, call, numbers):
+def answer_about_file(issues, call, numbers):
     file = numbers[0]
     if call == 4:
-        return record_of(all_files(known), file)
+        return tell_record(issues, file)
     if call == 5:
-        return tell_value(known, file, numbers[1])
+        return tell_value(issues, file, numbers[1])
     if call == 7:
-        return tell_sure(known, file)
+        return tell_sure(issues, file)
     if call == 8:
-        return tell_behind(known, file, numbers[1])
-    return tell_then(known, file, numbers[1])
+        return tell_behind(issues, file, numbers[1])
+    if call == 9:
+        return tell_then(issues, file, numbers[1])
+    return tell_history(issues, file)
 
 
-def answer(known, call, numbers, text):
-    for number, least_and_greatest in zip(numbers, RANGES[call]):
-        if not least_and_greatest[0] <= number <= least_and_greatest[1]:
-            return [OUT_OF_RANGE]
-    if any([not 0 <= byte <= 255 for byte in text]):
-        return [NO_BYTE]
+def answer_about_line(known, call, number, line_number):
+    if not 1 <= line_number <= len(known[number].lines):
+        return [NOT_KNOWN]
+    if call == 10:
+        return tell_line(known_issues(known), (number, line_number))
+    return tell_aims(known_issues(known), (number, line_number))
+
+
+def answer_about_issue(known, call, numbers):
+    number = numbers[0]
+    if number not in known:
+        return [NOT_KNOWN]
+    issue = known[number]
+    if call in CALLS_ABOUT_LINE:
+        return answer_about_line(known, call, number, numbers[1])
+    if call == 14:
+        return [0] + issue.text
+    if call == 15:
+        return lose(known, number)
+    return [issue.day, len(issue.lines)]
+
+
+def answer_with_list(known, call, numbers, listed):
     if call == 0:
-        return take(known, text)
+        return take(known, listed)
     if call == 1:
-        return judge(text)
+        return judge(listed)
+    if call == 12:
+        return write(numbers[0], numbers[1], listed)
+    if call == 16:
+        return without(known, listed)
+    return tell_search(known_issues(known), numbers[0], listed)
+
+
+def answer_about_all(issues, call):
     if call == 2:
-        return [0] + sorted(known)
+        return [0] + [issue.number for issue in issues]
     if call == 3:
-        return [0] + gaps_of(known_issues(known))
+        return [0] + gaps_of(issues)
     if call == 6:
-        return [0] + sorted(all_files(known))
-    return answer_about_file(known, call, numbers)
+        return tell_files(issues)
+    return tell_last(issues)
+
+
+def out_of_range(call, numbers):
+    for number, bounds in zip(numbers, RANGES[call]):
+        if bounds is not None and not bounds[0] <= number <= bounds[1]:
+            return True
+    return False
+
+
+def answer(known, call, numbers, listed):
+    if out_of_range(call, numbers):
+        return [OUT_OF_RANGE]
+    if call in CALLS_WITH_BYTES and any([not 0 <= byte <= 255 for byte in listed]):
+        return [NO_BYTE]
+    if call in CALLS_WITH_LIST:
+        return answer_with_list(known, call, numbers, listed)
+    if call in CALLS_ABOUT_ISSUE:
+        return answer_about_issue(known, call, numbers)
+    if call in CALLS_ABOUT_FILE:
+        return answer_about_file(known_issues(known), call, numbers)
+    return answer_about_all(known_issues(known), call)
 
 
 # For each call, in order: how many numbers are answered, and these.
@@ -142,12 +205,12 @@ def answers(calls):
         call = calls[at]
         behind_numbers = at + 1 + len(RANGES[call])
         numbers = calls[at + 1:behind_numbers]
-        text = []
+        listed = []
         at = behind_numbers
-        if call in CALLS_WITH_TEXT:
-            text = calls[at + 1:at + 1 + calls[at]]
-            at += 1 + len(text)
-        answered = answer(known, call, numbers, text)
+        if call in CALLS_WITH_LIST:
+            listed = calls[at + 1:at + 1 + calls[at]]
+            at += 1 + len(listed)
+        answered = answer(known, call, numbers, listed)
         told.append(len(answered))
         told.extend(answered)
     return told

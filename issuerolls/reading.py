@@ -1,6 +1,6 @@
 """Issues, and how they are read from texts."""
 
-from issuerolls.words import Reader
+from issuerolls.words import Fault, Reader
 
 MOST_LINES = 40
 GREATEST_ISSUE = 99
@@ -88,12 +88,21 @@ def read_line(reader, number, line_number):
     return Line(None, read_simple(reader))
 
 
-# The lines up to "close"; a 41st is left unread, so that its first word is the fault.
+# The lines up to "close" or the text's end; a 41st is left unread, so that its first word is the fault.
 def read_lines(reader, number):
     lines = []
-    while len(lines) < MOST_LINES and not reader.sees("close"):
+    while len(lines) < MOST_LINES and not reader.sees("close") and not reader.all_passed():
         lines.append(read_line(reader, number, len(lines) + 1))
         reader.read_name("\n")
+    return lines
+
+
+# The lines of a text that has nothing else, as they can stand in this issue; raises Fault where they can't.
+def read_lines_alone(text, number):
+    reader = Reader(text)
+    lines = read_lines(reader, number)
+    if not reader.all_passed():
+        raise Fault(reader.here())
     return lines
 
 

@@ -3,8 +3,8 @@
 from issuerolls.corrections import lines_in_the_end
 
 
-def issues_up_to(known, number):
-    return [known[each] for each in sorted(known) if each <= number]
+def issues_up_to(issues, number):
+    return [issue for issue in issues if issue.number <= number]
 
 
 def work(files, simple):
@@ -35,3 +35,9 @@ def record_of(files, file):
         record.append(len(fields[code]))
         record.extend(fields[code])
     return record
+
+
+# The files whose records are others there than here, rising.
+def files_that_differ(here, there):
+    either = sorted(set(here) | set(there))
+    return [file for file in either if record_of(here, file) != record_of(there, file)]

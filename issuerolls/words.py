@@ -16,6 +16,10 @@ class Fault(ValueError):
         self.place = place
 
 
+def bytes_of(signs):
+    return [ord(sign) for sign in signs]
+
+
 # Each word with how many bytes stand before it; an empty word has no bytes.
 def words_of(text):
     words = []
@@ -61,16 +65,21 @@ class Reader:
         # The word behind the last one is empty: it matches nothing, and its place is
         # the place of the fault where words are missing.
         self.words = words_of(text) + [(len(text), [])]
+        self.length = len(text)
         self.at = 0
 
     def here(self):
         return self.words[self.at][0]
 
+    # Whether no byte is left; a blank or a line's end may have stood last.
+    def all_passed(self):
+        return self.here() == self.length
+
     def word(self):
         return self.words[self.at][1]
 
     def sees(self, name):
-        return self.word() == [ord(sign) for sign in name]
+        return self.word() == bytes_of(name)
 
     # Whether the next word is this one; if so it is passed.
     def finds(self, name):

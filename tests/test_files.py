@@ -2,18 +2,12 @@
 
 import unittest
 
-from tests.support import (FILES, NO_RECORD, as_numbers, behind, file, issue, last, record, run, sure, take, then,
-                           value)
+from tests.support import (FILES, NO_RECORD, as_numbers, behind, file, issue, last, record, run, sure, take, taken,
+                           then, value)
 
 WRONG_FILES = (0, 1000, -1, -9223372036854775808, 9223372036854775807)
 WRONG_CODES = (9, 100, 0, -10, -9223372036854775808, 9223372036854775807)
 WRONG_NUMBERS = (-1, 100, -9223372036854775808, 9223372036854775807)
-
-
-def taken(*issues_lines):
-    """Takes of issues 1, 2, 3 .. with these lines each; None leaves an issue out."""
-    return [take(issue(number, number * 10, *lines))
-            for number, lines in enumerate(issues_lines, start=1) if lines is not None]
 
 
 class Lines(unittest.TestCase):

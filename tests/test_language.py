@@ -174,6 +174,14 @@ class Forms(unittest.TestCase):
                 if called_name(node) in WALKED_ON_THE_SPOT:
                     self.assertTrue(any(node is each for each in walked), (name, node.lineno))
 
+    def test_sets_are_sorted_or_counted_on_the_spot(self):
+        for name, tree in trees().items():
+            spots = [part for node in ast.walk(tree) if called_name(node) in ("sorted", "len")
+                     for part in ast.walk(node.args[0])]
+            for node in ast.walk(tree):
+                if called_name(node) in ("set", "frozenset"):
+                    self.assertTrue(any(node is each for each in spots), (name, node.lineno))
+
 
 class Names(unittest.TestCase):
     def test_imports(self):

@@ -4,129 +4,29 @@ import itertools
 import random
 import unittest
 
-from tests.support import (FILES, GAPS, ISSUES, NO_RECORD, all_questions, as_numbers, behind, file, issue, judge, run,
-                           sure, take, then, value)
-
-CODES = (10, 11, 99)
-SOME_FILES = range(1, 5)
-
-
-def random_simple(chance):
-    verb = chance.choice(["new", "new", "set", "set", "drop"])
-    words = [verb, str(chance.choice(SOME_FILES))]
-    if verb == "new":
-        for code in sorted(chance.sample(CODES, chance.randrange(3))):
-            words += [str(code), chance.choice("abcd")]
-    if verb == "set":
-        words += [str(chance.choice(CODES)), chance.choice("abcd")]
-    return " ".join(words)
-
-
-def random_line(chance, number, line_number):
-    """A line of this issue; corrections aim at near places, so that they often strike one another."""
-    kind = chance.choice(["simple", "simple", "fix", "void", "void"])
-    aimed_issue = max(1, number - chance.choice([0, 0, 1, 1, 2, 5]))
-    aimed_line = chance.randrange(1, 8) if aimed_issue < number else chance.randrange(0, line_number)
-    if kind == "simple" or aimed_line == 0:
-        return random_simple(chance)
-    if kind == "void":
-        return f"void {aimed_issue} {aimed_line}"
-    return f"fix {aimed_issue} {aimed_line} with {random_simple(chance)}"
-
-
-def random_lines(chance, number):
-    return [random_line(chance, number, line_number) for line_number in range(1, chance.randrange(1, 8))]
-
-
-def random_issues(chance, count):
-    """Lines by issue's number."""
-    return {number: random_lines(chance, number) for number in range(1, count + 1)}
-
+from tests.support import (CODES, FILES, GAPS, ISSUES, LAST, NO_RECORD, SOME_FILES, Model, aims, all_questions,
+                           as_numbers, behind, file, history, issue, judge, line, lose, random_issues, random_lines,
+                           run, search, sure, take, then, value, write)
 
 def takes(lines_of, numbers):
     return [take(issue(number, number // 2, *lines_of[number])) for number in numbers]
 
 
-class Model:
-    """What the document says, word by word and without haste."""
-
-    def __init__(self, lines_of):
-        self.numbers = sorted(lines_of)
-        self.lines = {(number, at): line.split() for number in self.numbers
-                      for at, line in enumerate(lines_of[number], start=1)}
-        self.standing = {}
-
-    def aimed(self, place):
-        line = self.lines[place]
-        return (int(line[1]), int(line[2])) if line[0] in ("fix", "void") else None
-
-    def aims_at(self, place):
-        return [other for other in sorted(self.lines) if self.aimed(other) == place]
-
-    def stands(self, place):
-        if place not in self.standing:
-            self.standing[place] = not any(self.lines[other][0] == "void" and self.stands(other)
-                                           for other in self.aims_at(place))
-        return self.standing[place]
-
-    def in_the_end(self, place):
-        deciding = [other for other in self.aims_at(place) if self.stands(other)]
-        if not deciding:
-            return self.lines[place]
-        line = self.lines[deciding[-1]]
-        return line[4:] if line[0] == "fix" else None
-
-    def ended(self):
-        simple = [place for place in sorted(self.lines) if self.aimed(place) is None]
-        return [(place, self.in_the_end(place)) for place in simple if self.in_the_end(place) is not None]
-
-    def files(self, n=99):
-        files = {}
-        for place, words in self.ended():
-            fields = {int(code): text for code, text in zip(words[2::2], words[3::2])}
-            if place[0] > n:
-                continue
-            if words[0] == "new":
-                files[int(words[1])] = fields
-            elif words[0] == "drop":
-                files.pop(int(words[1]), None)
-            elif int(words[1]) in files:
-                files[int(words[1])].update(fields)
-        return files
-
-    def record(self, number, n=99):
-        files = self.files(n)
-        if number not in files:
-            return NO_RECORD
-        told = [1, len(files[number])]
-        for code, text in sorted(files[number].items()):
-            told += [code, len(text)] + as_numbers(text)
-        return told
-
-    def value(self, number, code):
-        fields = self.files().get(number, {})
-        return [0] + as_numbers(fields[code]) if code in fields else [-8]
-
-    def gaps(self):
-        return [number for number in range(1, max(self.numbers, default=0)) if number not in self.numbers]
-
-    def sure(self, number):
-        gaps = self.gaps()
-        return not gaps or any(place[0] > gaps[-1] and words[0] in ("new", "drop") and int(words[1]) == number
-                               for place, words in self.ended())
-
-
 def model_answers(lines_of, n_range):
     """Questions, and what a model answers to each."""
     model = Model(lines_of)
-    asked = [(ISSUES, [0] + model.numbers), (GAPS, [0] + model.gaps()), (FILES, [0] + sorted(model.files()))]
+    asked = [(ISSUES, [0] + model.numbers), (GAPS, [0] + model.gaps()), (FILES, [0] + sorted(model.files())),
+             (LAST, model.last())]
     for number in SOME_FILES:
-        asked += [(file(number), model.record(number)), (sure(number), [int(model.sure(number))])]
+        asked += [(file(number), model.record(number)), (sure(number), [int(model.sure(number))]),
+                  (history(number), model.history(number))]
         asked += [(value(number, code), model.value(number, code)) for code in CODES]
         for n in n_range:
             earlier = Model({each: lines for each, lines in lines_of.items() if each <= n})
             asked += [(behind(number, n), model.record(number, n)), (then(number, n), earlier.record(number))]
-    return asked
+    asked += [(line(*place), model.line(place)) for place in model.lines]
+    asked += [(aims(*place), model.aims(place)) for place in model.lines]
+    return asked + [(search(code, sign), model.search(code, sign)) for code in CODES for sign in "abcd"]
 
 
 class AgainstTheModel(unittest.TestCase):
@@ -160,6 +60,22 @@ class Point1(unittest.TestCase):
             self.assertEqual(told[:len(numbers)], [[number] for number in numbers])
             self.assertEqual(told[len(numbers):], first)
 
+    def test_lost_and_taken_again(self):
+        questions = all_questions(files=SOME_FILES, codes=(10, 11), numbers=range(0, 7))
+        first = run(*takes(self.LINES, [1, 2, 4, 5]), *questions)[4:]
+        for number in self.LINES:
+            told = run(*takes(self.LINES, [5, 2, 4, 1]), lose(number), *takes(self.LINES, [number]), *questions)
+            self.assertEqual(told[4:6], [[3], [number]])
+            self.assertEqual(told[6:], first)
+
+    def test_lost_is_as_never_taken(self):
+        questions = all_questions(files=SOME_FILES, codes=(10, 11), numbers=range(0, 7))
+        for number in self.LINES:
+            others = [each for each in self.LINES if each != number]
+            never = run(*takes(self.LINES, others), *questions)[3:]
+            for numbers in itertools.permutations(self.LINES):
+                self.assertEqual(run(*takes(self.LINES, numbers), lose(number), *questions)[5:], never)
+
     def test_random_orders_of_random_issues(self):
         chance = random.Random(1)
         questions = all_questions(files=SOME_FILES, codes=CODES, numbers=range(0, 13, 3))
@@ -179,8 +95,9 @@ class Point2(unittest.TestCase):
 
     def assert_never_taken(self, texts):
         """In lists of calls of the size that can be handed in."""
-        for start in range(0, len(texts), 60):
-            some = texts[start:start + 60]
+        at_once = min(60, 7500 // (2 + len(texts[0])))
+        for start in range(0, len(texts), at_once):
+            some = texts[start:start + at_once]
             told = run(*[take(text) for text in some], *[judge(text) for text in some], ISSUES)
             for text, taken, judged in zip(some, told, told[len(some):]):
                 self.assertLess(taken[0], 0, bytes(text))
@@ -203,22 +120,49 @@ class Point2(unittest.TestCase):
             self.assert_never_taken([good[:place] + [good[place + 1], good[place]] + good[place + 2:]
                                      for place in range(len(good) - 1) if good[place] != good[place + 1]])
 
+    def test_a_written_issue_with_a_byte_changed_or_neighbours_exchanged(self):
+        good = run(write(31, 4159, "new 26 53 close\nvoid 31 1\nfix 5 8 with drop 97\n"))[0][1:]
+        self.assertEqual(run(judge(good), take(good)), [[0], [31]])
+        self.assert_never_taken([good[:place] + [byte] + good[place + 1:] for place in range(len(good))
+                                 for byte in (0, 10, 32, 48, 49, 57, 97, 122, 255, good[place] ^ 1)
+                                 if byte != good[place]])
+        self.assert_never_taken([good[:place] + [good[place + 1], good[place]] + good[place + 2:]
+                                 for place in range(len(good) - 1) if good[place] != good[place + 1]])
+
 
 class Point3(unittest.TestCase):
     def test_what_stands_in_every_small_tangle(self):
         """All ways in which four corrections in a row can aim at what stands before them."""
-        for aims in itertools.product(range(1, 2), range(1, 3), range(1, 4), range(1, 5)):
+        for targets in itertools.product(range(1, 2), range(1, 3), range(1, 4), range(1, 5)):
             for kinds in itertools.product(["void", "fix"], repeat=4):
                 lines = ["new 1 10 a"]
-                for at, (aim, kind) in enumerate(zip(aims, kinds), start=2):
+                for at, (aim, kind) in enumerate(zip(targets, kinds), start=2):
                     lines.append(f"void 1 {aim}" if kind == "void" else f"fix 1 {aim} with new 1 10 {'abcdef'[at - 1]}")
-                told = run(take(issue(1, 5, *lines)), file(1))[1]
-                self.assertEqual(told, Model({1: lines}).record(1), lines)
+                told = run(take(issue(1, 5, *lines)), file(1), *[line(1, at) for at in range(2, 6)])[1:]
+                model = Model({1: lines})
+                self.assertEqual(told[0], model.record(1), lines)
+                self.assertEqual(told[1:], [[3] if model.stands((1, at)) else [4] for at in range(2, 6)], lines)
+
+    def test_just_if_none_that_stands_strikes_it(self):
+        """Asked of what the program itself tells of the corrections that aim at each."""
+        chance = random.Random(33)
+        for round_number in range(40):
+            lines_of = random_issues(chance, 9)
+            numbers = chance.sample(sorted(lines_of), chance.randrange(2, 10))
+            places = [(number, at) for number in numbers for at, text in enumerate(lines_of[number], start=1)
+                      if text.startswith(("fix", "void"))]
+            told = run(*takes(lines_of, numbers), *[line(*place) for place in places],
+                       *[aims(*place) for place in places])[len(numbers):]
+            for place, stands, aiming in zip(places, told, told[len(places):]):
+                struck = [at for at in range(1, len(aiming), 3)
+                          if lines_of[aiming[at]][aiming[at + 1] - 1].startswith("void") and aiming[at + 2] == 1]
+                self.assertEqual(stands, [4] if struck else [3], (place, lines_of))
 
 
 class Point4(unittest.TestCase):
     def test_taking_the_missing_issue_leaves_a_sure_file(self):
-        known = {1: ["new 1 10 a", "new 2 10 a"], 3: ["new 1 10 b", "set 2 10 c"], 4: ["set 1 11 c", "fix 3 1 with drop 1"]}
+        known = {1: ["new 1 10 a", "new 2 10 a"], 3: ["new 1 10 b", "set 2 10 c"],
+                 4: ["set 1 11 c", "fix 3 1 with drop 1"]}
         for missing in (["drop 1", "drop 2"], ["void 1 1", "void 1 2"], ["new 1 99 z", "new 2 99 z"],
                         ["fix 1 1 with drop 2", "set 1 10 y", "set 2 10 y"]):
             told = run(*takes(known, [1, 3, 4]), sure(1), sure(2), file(1), *takes({2: missing}, [2]), file(1))
@@ -230,6 +174,24 @@ class Point4(unittest.TestCase):
         told = run(*takes(known, [1, 3]), sure(1), file(1), *takes({2: ["drop 1"]}, [2]), file(1), sure(1))
         self.assertEqual([told[2], told[5], told[6]], [[0], NO_RECORD, [1]])
         self.assertNotEqual(told[3], told[5])
+
+    def test_lost_issues_leave_a_sure_file_sure_whatever_comes_in_their_stead(self):
+        chance = random.Random(44)
+        seen_sure = 0
+        asked = [question for each in SOME_FILES for question in (sure(each), file(each))]
+        for round_number in range(150):
+            lines_of = random_issues(chance, 8)
+            lost = chance.sample(range(1, 8), chance.randrange(1, 5))
+            others = {number: random_lines(chance, number) for number in lost}
+            told = run(*takes(lines_of, range(1, 9)), *[lose(number) for number in lost], *asked,
+                       *takes(others, lost), *asked)[8 + len(lost):]
+            before, after = told[:len(asked)], told[-len(asked):]
+            for at in range(0, len(asked), 2):
+                self.assertEqual(after[at], [1])
+                if before[at] == [1]:
+                    seen_sure += 1
+                    self.assertEqual(before[at + 1], after[at + 1], (lost, lines_of, others))
+        self.assertGreater(seen_sure, 50)
 
     def test_whatever_random_missing_issues_say(self):
         chance = random.Random(4)

@@ -1,15 +1,9 @@
-"""Calls 0 and 1: when a text is an issue, and the place of its fault."""
+"""Calls 0 and 1: when a text is an issue, and the place of its fault; call 12 where it asks the same of lines."""
 
 import itertools
 import unittest
 
-from tests.support import ISSUES, closed, issue, judge, last, run, take
-
-
-def marked(text):
-    """A text without its mark "|", and the place of the mark."""
-    place = text.index("|")
-    return text[:place] + text[place + 1:], place
+from tests.support import ISSUES, closed, ended, issue, judge, last, marked, run, take, write
 
 
 def issue_of_check(check):
@@ -75,12 +69,14 @@ class Faults(unittest.TestCase):
         self.assertEqual(told, [[1, place], [-1000 - place], [0]], marked_text)
 
     def assert_line_fault(self, marked_line, before=(), number=5):
-        """A line with a mark, within an issue that has the right count and check else."""
+        """A line with a mark, within an issue that has the right count and check else, and among lines alone."""
         line, place = marked(marked_line)
-        head = f"gazette {number} of 3\n" + "".join(each + "\n" for each in before)
-        text = issue(number, 3, *before, line, "drop 1")
-        at = len(head) + place
+        lines = [*before, line, "drop 1"]
+        place += len(ended(before))
+        at = len(f"gazette {number} of 3\n") + place
+        text = issue(number, 3, *lines)
         self.assert_fault(text[:at] + "|" + text[at:])
+        self.assertEqual(last(write(number, 3, ended(lines))), [-1000 - place], marked_line)
 
     def test_the_empty_text(self):
         self.assert_fault("|")
@@ -227,7 +223,7 @@ class Faults(unittest.TestCase):
     def test_close_too_early(self):
         self.assert_fault("|close 0 0")
         self.assert_fault("gazette 5 |close 0 0")
-        self.assert_line_fault("close 0 |drop 1")
+        self.assert_fault("gazette 5 of 3\nclose 0 |drop 1\nclose 0 0")
 
     def test_the_first_fault_is_told(self):
         self.assert_fault("gazette |0 of x\nfoo\nclose 99 99999")
